@@ -1,0 +1,202 @@
+"""Yards, nets and odd values for the tests, and what the document says of them, by going through all."""
+import itertools
+import random
+
+YARD = ((("a", "b", 3), ("feed", "a", 5)), (("bus", "a", 4, 6), ("van", "b", 2, 5)))
+EMPTY = ((), ())
+
+# Values that are nothing that the document names.
+ODD = (
+    None, True, False, -1, 10 ** 39, "", "feed", "A", "a b", "x" * 21, "cable", "a\nb", (), [], {}, ((),), [()], ((), (), ()),
+    (None,), (True,), ([],), ((1, 2), 3), {"a": 1}, {("a", "b"): 1}, {None: None}, {1: 1}, (("a", "b"), "c"), [[[[]]]],
+    ("a", "b", "c", "d"), ValueError("x"), ((((((((),),),),),),),), ("feed", ("feed", "a"), 1), (0, None), ((0, None), None),
+)
+
+
+def spoiled(value):
+    """Yield values that differ from this one in one place, at any depth."""
+    yield from ODD
+    if isinstance(value, bool) or value is None:
+        return
+    if isinstance(value, int):
+        yield from (value + 1, value - 1, -value, str(value), (value,))
+        if value in (0, 1):
+            yield bool(value)
+    elif isinstance(value, str):
+        yield from (value + "x", value.upper(), value[1:], value + " ", "1" + value, (value,), [value])
+    elif isinstance(value, (tuple, list)):
+        yield from _spoiled_row(value)
+    elif isinstance(value, dict):
+        yield from _spoiled_dict(value)
+
+
+def _spoiled_row(value):
+    make = type(value)
+    items = list(value)
+    yield list(value) if make is tuple else tuple(value)
+    yield make(items[::-1])
+    yield make(items + [None])
+    for at in range(len(items)):
+        yield make(items[:at] + items[at + 1:])
+        yield make(items[:at] + [items[at]] + items[at:])
+        for other in spoiled(items[at]):
+            yield make(items[:at] + [other] + items[at + 1:])
+        if at:
+            yield make(items[:at - 1] + [items[at], items[at - 1]] + items[at + 1:])
+
+
+def _spoiled_dict(value):
+    yield list(value.items())
+    yield {key: value[key] for key in reversed(list(value))}
+    yield {**value, "zz": 1}
+    for key in value:
+        yield {other: value[other] for other in value if other != key}
+        for thing in spoiled(value[key]):
+            yield {**value, key: thing}
+        for thing in spoiled(key):
+            try:
+                yield {thing if other == key else other: value[other] for other in value}
+            except TypeError:
+                # No key of a dict.
+                continue
+
+
+def lots_of(names):
+    """All LOTS of these names."""
+    names = sorted(names)
+    return [lot for many in range(len(names) + 1) for lot in itertools.combinations(names, many)]
+
+
+def knots_of(yard):
+    knots = {"feed"}
+    for start, end, _ in yard[0]:
+        knots |= {start, end}
+    return sorted(knots | {car[1] for car in yard[1]})
+
+
+def cuts_of(yard):
+    return lots_of(set(knots_of(yard)) - {"feed"})
+
+
+def car_lots_of(yard):
+    return lots_of(car[0] for car in yard[1])
+
+
+def worth(yard, cut, lot):
+    total = 0
+    for start, end, cap in yard[0]:
+        if end in cut and start not in cut:
+            total += cap
+    for name, knot, rate, _ in yard[1]:
+        if name in lot and knot not in cut:
+            total += rate
+    return total
+
+
+def limit(yard, lot):
+    return min(worth(yard, cut, lot) for cut in cuts_of(yard))
+
+
+def limits(yard):
+    """The LIMIT of each LOT of CARS."""
+    return {lot: limit(yard, lot) for lot in car_lots_of(yard)}
+
+
+def needs_out(yard, lot):
+    return sum(need for name, _, _, need in yard[1] if name not in lot)
+
+
+def most_sum(yard, copies, known=None):
+    """The least that a COPIES PAPER says, by going through all lots and cuts."""
+    best = None
+    for lot, worth_of_lot in (known or limits(yard)).items():
+        said = needs_out(yard, lot)
+        for times, most in copies:
+            carried = times * worth_of_lot
+            said += carried if most is None else min(most, carried)
+        best = said if best is None else min(best, said)
+    return best
+
+
+def reach(yard, h, known=None):
+    return most_sum(yard, ((h, None),), known)
+
+
+def steps_to_stairs(steps):
+    runs = []
+    for step in steps:
+        if step and runs and runs[-1][0] == step:
+            runs[-1] = (step, runs[-1][1] + 1)
+        elif step:
+            runs.append((step, 1))
+    return tuple(runs)
+
+
+def stairs(yard):
+    """The STAIRS of a small yard, step by step."""
+    known = limits(yard)
+    whole = [reach(yard, h, known) for h in range(sum(car[3] for car in yard[1]) + 2)]
+    return steps_to_stairs(behind - ahead for ahead, behind in zip(whole, whole[1:]))
+
+
+def carries(yard, times, amounts, flow):
+    for start, end, cap in yard[0]:
+        if flow.get((start, end), 0) > times * cap:
+            return False
+    for name, _, rate, _ in yard[1]:
+        if amounts.get(name, 0) > times * rate:
+            return False
+    for knot in knots_of(yard):
+        comes = sum(much for (_, end), much in flow.items() if end == knot)
+        goes = sum(much for (start, _), much in flow.items() if start == knot)
+        gets = sum(amounts.get(name, 0) for name, stand, _, _ in yard[1] if stand == knot)
+        if knot != "feed" and comes != goes + gets:
+            return False
+    return True
+
+
+def some_yard(chance, cars=4, cables=5, knots=3, great=4):
+    """A yard of this size at most, in which most knots can be reached."""
+    places = ["feed"] + ["k%d" % at for at in range(knots)]
+    caps = {}
+    for at in range(1, len(places)):
+        if chance.random() < 0.85:
+            caps[places[chance.randrange(at)], places[at]] = chance.randint(0, great)
+    for _ in range(chance.randint(0, max(0, cables - knots))):
+        start, end = chance.sample(places, 2)
+        if end != "feed":
+            caps[start, end] = chance.randint(0, great)
+    rows = []
+    for at in range(chance.randint(0, cars)):
+        rows.append(("c%02d" % at, chance.choice(places), chance.randint(1, great), chance.randint(0, 3 * great)))
+    return tuple(sorted(ends + (cap,) for ends, cap in caps.items())), tuple(rows)
+
+
+def some_yards(seed, many, **sizes):
+    chance = random.Random(seed)
+    return [some_yard(chance, **sizes) for _ in range(many)]
+
+
+def some_copies(chance, many=3, hours=3, most=8):
+    row = []
+    for _ in range(chance.randint(0, many)):
+        row.append((chance.randint(0, hours), chance.choice([None, 0, chance.randint(0, most)])))
+    return tuple(row)
+
+
+def great_yard(seed):
+    """A yard as great as it may be: 24 cars, 40 cables, numbers of twelve digits."""
+    chance = random.Random(seed)
+    places = ["feed"] + ["k%02d" % at for at in range(18)]
+    caps = {}
+    for at in range(1, len(places)):
+        caps[places[chance.randrange(max(0, at - 3), at)], places[at]] = chance.randint(1, 10 ** 12 - 1)
+    while len(caps) < 40:
+        start, end = chance.sample(places, 2)
+        if end != "feed":
+            caps[start, end] = chance.randint(0, 10 ** 12 - 1)
+    cars = []
+    for at in range(24):
+        need = chance.choice([0, 10 ** 12 - 1, chance.randint(1, 10 ** 12 - 1)])
+        cars.append(("c%02d" % at, chance.choice(places), chance.randint(1, 10 ** chance.randint(1, 12) - 1), need))
+    return tuple(sorted(ends + (cap,) for ends, cap in caps.items())), tuple(cars)
