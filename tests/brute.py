@@ -200,3 +200,80 @@ def great_yard(seed):
         need = chance.choice([0, 10 ** 12 - 1, chance.randint(1, 10 ** 12 - 1)])
         cars.append(("c%02d" % at, chance.choice(places), chance.randint(1, 10 ** chance.randint(1, 12) - 1), need))
     return tuple(sorted(ends + (cap,) for ends, cap in caps.items())), tuple(cars)
+
+
+def some_net(chance, numbers=5, arcs=8, great=5):
+    """A net of this size at most; arcs without a bound lead on to greater numbers but 1 only, so none go from 0 to 1."""
+    many = chance.randint(2, numbers)
+    rows = []
+    for _ in range(chance.randint(0, arcs)):
+        start, end = chance.sample(range(many), 2)
+        cap = chance.choice([0, 1, chance.randint(0, great), chance.randint(0, great)])
+        if 1 not in (start, end) and start < end and chance.random() < 0.3:
+            cap = None
+        rows.append((start, end, cap))
+    return many, tuple(rows)
+
+
+def some_through(chance, net):
+    """A THROUGH had by going along any ways and rings, often not the greatest."""
+    many, arcs = net
+    through = [0] * len(arcs)
+    for _ in range(chance.randint(0, 6)):
+        first, last = chance.choice([(0, 1), (1, 0)] + [(number, number) for number in range(many)])
+        trail = _some_trail(chance, arcs, through, first, last)
+        if trail:
+            rooms = [much - through[at] for at, much in ((at, arcs[at][2]) for at in trail) if much is not None]
+            add = chance.randint(0, min(rooms + [3]))
+            for at in trail:
+                through[at] += add
+    return tuple(through)
+
+
+def _some_trail(chance, arcs, through, first, last):
+    here, trail = first, []
+    for _ in range(6):
+        ways = [at for at, (start, _, cap) in enumerate(arcs)
+                if start == here and at not in trail and (cap is None or cap > through[at])]
+        if not ways:
+            return None
+        trail.append(chance.choice(ways))
+        here = arcs[trail[-1]][1]
+        if here == last:
+            return trail
+    return None
+
+
+def net_cuts(net):
+    """For each set with 0 and without 1, as an ascending tuple, what leads out of it; None without a bound."""
+    many, arcs = net
+    cuts = {}
+    for others in lots_of(range(2, many)):
+        side = (0,) + others
+        caps = [cap for start, end, cap in arcs if start in side and end not in side]
+        cuts[side] = None if None in caps else sum(caps)
+    return cuts
+
+
+def slow_through(chance, net):
+    """A greatest THROUGH found unit by unit, along whatever ways chance takes; numbers are to be small."""
+    many, arcs = net
+    through = [0] * len(arcs)
+    while True:
+        before = {0: None}
+        front = [0]
+        while front:
+            here = front.pop(chance.randrange(len(front)))
+            for at, (start, end, cap) in enumerate(arcs):
+                if start == here and end not in before and (cap is None or through[at] < cap):
+                    before[end] = (here, at, 1)
+                    front.append(end)
+                if end == here and start not in before and through[at] > 0:
+                    before[start] = (here, at, -1)
+                    front.append(start)
+        if 1 not in before:
+            return tuple(through)
+        here = 1
+        while here != 0:
+            here, at, much = before[here]
+            through[at] += much
