@@ -34,8 +34,8 @@ def _lots_between(yard, upper, lower):
     base, rise = couple_of(yard, _best_paper(yard, upper))
     later_base, later_rise = couple_of(yard, _best_paper(yard, lower))
     lot = _least_lot(yard, later_base - base, rise - later_rise)
-    # Least lots of a greater h lie within: one of those two, if nothing says less.
-    if lot == upper or lot == lower:
+    # All least lots lie in the greatest one: it is the upper one exactly if nothing says less there.
+    if lot == upper:
         return []
     return _lots_between(yard, upper, lot) + [lot] + _lots_between(yard, lot, lower)
 

@@ -99,6 +99,20 @@ class Lines(unittest.TestCase):
         self.assertIs(is_lines(YARD, (EVERY, (("van",), ("b",)), NONE)), True)
         self.assertIs(is_lines(YARD, (EVERY, (("van",), ("a", "b")), NONE)), True)
 
+    def test_lots_that_do_not_lie_in_one_another(self):
+        yard = ((), (("a", "feed", 1, 1), ("b", "feed", 1, 1), ("c", "feed", 1, 1)))
+        every, ab, c, b = ((lot, ()) for lot in (("a", "b", "c"), ("a", "b"), ("c",), ("b",)))
+        self.assertIs(is_lines(yard, (every, ab, b, NONE)), True)
+        self.assertIs(is_lines(yard, (every, ab, c, NONE)), False)
+
+    def test_lines_that_begin_above_nothing(self):
+        yard = ((), (("a", "feed", 1, 3), ("u", "k", 1, 5)))
+        first, last = (("a", "u"), ("k",)), (("u",), ("k",))
+        self.assertIs(is_lines(yard, (first, last)), True)
+        # These rise as the reach does, but from 5 on.
+        self.assertIs(is_lines(yard, ((("a",), ()), NONE)), False)
+        self.assertIs(is_lines(yard, (first, NONE)), False)
+
     def test_is_lines_of_any_value(self):
         for yard in (YARD, EMPTY, chain(2)):
             known, told = brute.limits(yard), lines(yard)
