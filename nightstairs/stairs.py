@@ -74,8 +74,8 @@ def stairs_of(pairs):
     while rise > 0:
         turn = _first_less(pairs, base, rise)
         later_base, later_rise = _flattest_least(pairs, turn)
-        _put_run(runs, rise, turn - 1 - h)
-        _put_run(runs, later_base + turn * later_rise - base - (turn - 1) * rise, 1)
+        put_run(runs, rise, turn - 1 - h)
+        put_run(runs, later_base + turn * later_rise - base - (turn - 1) * rise, 1)
         h, base, rise = turn, later_base, later_rise
     return tuple(runs)
 
@@ -90,7 +90,7 @@ def _first_less(pairs, base, rise):
     return min([(other - base) // (rise - slope) + 1 for other, slope in pairs if slope < rise])
 
 
-def _put_run(runs, step, times):
+def put_run(runs, step, times):
     """Put a run of steps behind the others; the last one grows if its steps are the same."""
     if step == 0 or times == 0:
         return

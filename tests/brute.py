@@ -277,3 +277,126 @@ def slow_through(chance, net):
         while here != 0:
             here, at, much = before[here]
             through[at] += much
+
+
+def steps_in(told, many):
+    """The first so many steps of STAIRS, 0 behind them."""
+    steps = [step for step, times in told for _ in range(min(times, many))]
+    return (steps + [0] * many)[:many]
+
+
+def reach_in(told, h):
+    """The sum of the first h steps of STAIRS."""
+    total = 0
+    for step, times in told:
+        total += step * min(times, h)
+        h -= min(times, h)
+    return total
+
+
+def some_stairs(chance, runs=4, step=9, times=4):
+    """STAIRS of so many runs at most."""
+    steps = sorted(chance.sample(range(1, step + 1), chance.randint(0, min(runs, step))), reverse=True)
+    return tuple((step, chance.randint(1, times)) for step in steps)
+
+
+def great_stairs(chance, runs=20):
+    steps = sorted({chance.randint(1, 10 ** 12) for _ in range(runs)}, reverse=True)
+    return tuple((step, chance.choice([1, 2, chance.randint(1, 10 ** 15)])) for step in steps)
+
+
+def some_night(chance, hours=4, most=6):
+    return tuple(chance.randint(0, most) for _ in range(chance.randint(0, hours)))
+
+
+def order_rows(yard, known=None):
+    """All that one hour of plenty can carry, whatever the needs, as tuples of the amounts of all CARS, ascending."""
+    known = known or limits(yard)
+    names = [car[0] for car in yard[1]]
+    parts = [([names.index(name) for name in lot], limit_of_lot) for lot, limit_of_lot in known.items()]
+    rows = itertools.product(*[range(car[2] + 1) for car in yard[1]])
+    return [row for row in rows if all(sum(row[at] for at in places) <= most for places, most in parts)]
+
+
+def orders(yard, supply, rows=None):
+    """All ORDERS of a yard, as such tuples, by the limits of all lots."""
+    rows = order_rows(yard) if rows is None else rows
+    needs = [car[3] for car in yard[1]]
+    return [row for row in rows if sum(row) <= supply and all(one <= need for one, need in zip(row, needs))]
+
+
+def amounts_of(yard, row):
+    return {car[0]: amount for car, amount in zip(yard[1], row) if amount}
+
+
+def row_of(yard, amounts):
+    return tuple(amounts.get(car[0], 0) for car in yard[1])
+
+
+def less(yard, amounts):
+    """The yard charged with these."""
+    return yard[0], tuple((name, knot, rate, need - amounts.get(name, 0)) for name, knot, rate, need in yard[1])
+
+
+def could(yard, night, rows=None):
+    """COULD(m) for each m, by going through all plans; those behind which the same is left are gone through once."""
+    rows = order_rows(yard) if rows is None else rows
+    needs = [car[3] for car in yard[1]]
+    reached, most = {(0,) * len(needs)}, [0]
+    for supply in night:
+        hour = [row for row in rows if sum(row) <= supply]
+        behind = {tuple(map(sum, zip(got, row))) for got in reached for row in hour}
+        reached = {got for got in behind if all(one <= need for one, need in zip(got, needs))}
+        most.append(max(map(sum, reached)))
+    return tuple(most)
+
+
+def is_order(yard, supply, thing):
+    """An ORDER, by the limits of all lots."""
+    if type(thing) is not dict or not all(type(amount) is int and amount > 0 for amount in thing.values()):
+        return False
+    if any(name not in [car[0] for car in yard[1]] for name in thing):
+        return False
+    if any(thing.get(name, 0) > need for name, _, _, need in yard[1]) or sum(thing.values()) > supply:
+        return False
+    return all(sum(thing.get(name, 0) for name in lot) <= limit(yard, lot) for lot in car_lots_of(yard))
+
+
+def is_plan(yard, night, thing):
+    if type(thing) is not tuple or len(thing) != len(night):
+        return False
+    for supply, amounts in zip(night, thing):
+        if not is_order(yard, supply, amounts):
+            return False
+        yard = less(yard, amounts)
+    return True
+
+
+def is_nomore(yard, night, m, thing):
+    if type(thing) is not tuple or len(thing) != 3 or type(thing[0]) is not tuple:
+        return False
+    if not all(type(hour) is int and hour in range(m) for hour in thing[0]) or list(thing[0]) != sorted(set(thing[0])):
+        return False
+    return is_lot(thing[1], [car[0] for car in yard[1]]) and is_lot(thing[2], set(knots_of(yard)) - {"feed"})
+
+
+def is_lot(thing, names):
+    if type(thing) is not tuple or not all(type(name) is str and name in names for name in thing):
+        return False
+    return list(thing) == sorted(set(thing))
+
+
+def nomore_said(yard, night, m, paper):
+    hours, lot, cut = paper
+    rest = sum(supply for at, supply in enumerate(night[:m]) if at not in hours)
+    return rest + needs_out(yard, lot) + len(hours) * worth(yard, cut, lot)
+
+
+def least_said(yard, night, m, known=None):
+    """The least that a NO-MORE PAPER for m says, by going through all of them."""
+    found = []
+    for hours in lots_of(range(m)):
+        rest = sum(night[at] for at in range(m) if at not in hours)
+        for lot, worth_of_lot in (known or limits(yard)).items():
+            found.append(rest + needs_out(yard, lot) + len(hours) * worth_of_lot)
+    return min(found)

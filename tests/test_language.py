@@ -21,7 +21,7 @@ CALLED = {"len", "range", "enumerate", "zip", "min", "max", "sum", "abs", "sorte
           "tuple", "dict", "set", "isinstance", "any", "all"}
 NAMED = CALLED | {"ValueError"}
 METHODS = {"append", "copy", "count", "extend", "get", "index", "insert", "items", "join", "keys", "partition", "pop", "remove",
-           "setdefault", "split", "strip", "values"}
+           "setdefault", "split", "strip", "values", "zfill"}
 BARRED = {"register", "mro", "elements", "open", "input", "law", "type", "typing", "enum", "eval", "exec", "exit", "gc", "os",
           "sys", "vars", "dir", "id", "map", "next", "iter", "copyright", "credits", "license", "help", "format"}
 ITERATED_AT_ONCE = {"zip", "enumerate", "reversed", "items", "keys", "values"}
@@ -73,7 +73,8 @@ class Language(unittest.TestCase):
             self.assertIn(type(node).__name__, NODES, (name, getattr(node, "lineno", None)))
 
     def test_imports_go_up_the_list_of_modules(self):
-        order = ["errors", "forms", "yards", "edits", "yardtexts", "nets", "flows", "cuts", "copypapers", "reach", "stairs"]
+        order = ["errors", "forms", "yards", "edits", "yardtexts", "nets", "flows", "cuts", "copypapers", "reach", "stairs",
+                 "rows", "bare", "nights", "could", "nomore"]
         for name, tree in trees():
             body = [node for node in tree.body if not (isinstance(node, ast.Expr) and isinstance(node.value, ast.Constant))]
             heads = [isinstance(node, ast.ImportFrom) for node in body]

@@ -7,24 +7,10 @@ from nightstairs.forms import is_stairs
 from nightstairs.reach import is_reach_paper, reach
 from nightstairs.stairs import is_lines, lines, pairs_of, stairs, stairs_of
 from tests import brute
-from tests.brute import EMPTY, ODD, YARD, car_lots_of, cuts_of, great_yard, some_yards, spoiled
+from tests.brute import EMPTY, ODD, YARD, car_lots_of, cuts_of, great_yard, reach_in, some_yards, spoiled, steps_in
 
 GREAT = 10 ** 12
 EVERY, VAN, NONE = (("bus", "van"), ("a", "b")), (("van",), ()), ((), ())
-
-
-def steps_in(told, many):
-    """The first so many steps of STAIRS, 0 behind them."""
-    steps = [step for step, times in told for _ in range(min(times, many))]
-    return (steps + [0] * many)[:many]
-
-
-def reach_in(told, h):
-    total = 0
-    for step, times in told:
-        total += step * min(times, h)
-        h -= min(times, h)
-    return total
 
 
 def lines_form(yard, thing, known):
