@@ -1,6 +1,6 @@
 """What the nets of a yard carry: one copy for some hours, or several that share the needs."""
 from nightstairs.nets import most_through, value_of
-from nightstairs.yards import knots_of
+from nightstairs.yards import cars_of, knots_of
 
 
 def copies_net(yard, copies):
@@ -20,6 +20,12 @@ def copy_numbers(yard, at):
     knots = knots_of(yard)
     first = 2 + len(yard[1]) + at * len(knots)
     return {knot: first + index for index, knot in enumerate(knots)}
+
+
+def amount_arc(yard, name):
+    """Return the index of the arc in copies_net that leads to the CAR with this name in the first copy."""
+    cables, cars = yard
+    return len(cars) + 1 + len(cables) + cars_of(yard).index(name)
 
 
 def _copy_arcs(yard, copy, numbers):

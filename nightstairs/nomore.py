@@ -30,11 +30,11 @@ def _is_hour_lot(m, thing):
 
 def nomore_paper(yard, night, m):
     """Return a NO-MORE PAPER that says just COULD(m)."""
-    return _least_paper(yard, stairs(yard), night[:m])
+    return least_paper(yard, stairs(yard), night[:m])
 
 
-def _least_paper(yard, steps, supplies):
-    """The NO-MORE PAPER of nomore_paper for a whole NIGHT; steps are the STAIRS of the yard."""
+def least_paper(yard, steps, supplies):
+    """Return nomore_paper for the whole of a NIGHT; steps are the STAIRS of the yard."""
     told = told_for(steps, supplies)
     h = told.index(min(told))
     greatest = sorted([(-supply, at) for at, supply in enumerate(supplies)])[:h]
@@ -45,7 +45,7 @@ def _least_paper(yard, steps, supplies):
 def papers_of(yard, night):
     """Return the tuple of nomore_paper for m from 0 to the length of the NIGHT."""
     steps = stairs(yard)
-    return tuple([_least_paper(yard, steps, night[:m]) for m in range(len(night) + 1)])
+    return tuple([least_paper(yard, steps, night[:m]) for m in range(len(night) + 1)])
 
 
 def is_as_good(yard, night, plan, thing):

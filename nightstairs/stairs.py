@@ -47,7 +47,7 @@ def is_lines(yard, thing):
     if not all([_is_lesser_part(ahead[0], behind[0]) for ahead, behind in zip(thing, thing[1:])]):
         return False
     pairs = pairs_of(yard, thing)
-    if not _are_whole(pairs):
+    if not are_whole(pairs):
         return False
     return stairs_of(pairs) == stairs(yard)
 
@@ -56,7 +56,7 @@ def _is_lesser_part(lot, part):
     return len(part) < len(lot) and all([name in lot for name in part])
 
 
-def _are_whole(pairs):
+def are_whole(pairs):
     """Tell whether the least of the couples is 0 at h = 0, and does not rise for ever."""
     return any([base == 0 for base, rise in pairs]) and any([rise == 0 for base, rise in pairs])
 

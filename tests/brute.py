@@ -400,3 +400,74 @@ def least_said(yard, night, m, known=None):
         for lot, worth_of_lot in (known or limits(yard)).items():
             found.append(rest + needs_out(yard, lot) + len(hours) * worth_of_lot)
     return min(found)
+
+
+def hours_of(yard):
+    """A number of hours behind which no more is charged."""
+    return sum(car[3] for car in yard[1]) + 1
+
+
+def reaches(yard, many, known=None):
+    """REACH(h) for the first so many h."""
+    pairs = {(needs_out(yard, lot), most) for lot, most in (known or limits(yard)).items()}
+    return [min(base + h * rise for base, rise in pairs) for h in range(many)]
+
+
+def short_hours(yard, supply, amounts, known=None, ahead=None):
+    """None of a RIGHT ORDER, 0 of one that is not full, else the least h with less than is due."""
+    known = known or limits(yard)
+    x, many = sum(amounts.values()), hours_of(yard)
+    ahead = ahead or reaches(yard, many + 1, known)
+    if x != min(supply, ahead[1]):
+        return 0
+    for h, told in enumerate(reaches(less(yard, amounts), many, known)):
+        if told != min(ahead[h], ahead[h + 1] - x):
+            return h
+    return None
+
+
+def right_orders(yard, supply, known=None, rows=None):
+    """All RIGHT ORDERS, as tuples of the amounts of all CARS, by going through all ORDERS."""
+    known = known or limits(yard)
+    ahead = reaches(yard, hours_of(yard) + 1, known)
+    found = orders(yard, supply, rows or order_rows(yard, known))
+    full = [row for row in found if sum(row) == min(supply, ahead[1])]
+    return [row for row in full if short_hours(yard, supply, amounts_of(yard, row), known, ahead) is None]
+
+
+def with_needs(yard, needs):
+    """The yard in which the cars have these needs, and the others none."""
+    return yard[0], tuple((name, knot, rate, needs.get(name, 0)) for name, knot, rate, _ in yard[1])
+
+
+def could_at_end(yard, night, known=None):
+    return least_said(yard, night, len(night), known)
+
+
+def full_yard(seed):
+    """As great_yard, but its cables carry much of what its cars can take."""
+    chance = random.Random(seed)
+    places = ["feed"] + ["k%02d" % at for at in range(14)]
+    caps = {("feed", place): chance.randint(1, 10 ** 12 - 1) for place in places[1:4]}
+    while len(caps) < 40:
+        start = chance.randrange(13)
+        end = chance.randint(start + 1, min(14, start + 4))
+        if start and chance.random() < 0.15:
+            start, end = end, start
+        caps[places[start], places[end]] = chance.randint(0, 10 ** 12 - 1)
+    cars = []
+    for at in range(24):
+        rate = chance.randint(1, 10 ** chance.randint(9, 12) - 1)
+        cars.append(("c%02d" % at, chance.choice(places[2:]), rate, chance.randint(0, 10 ** chance.randint(9, 12) - 1)))
+    return tuple(sorted(ends + (cap,) for ends, cap in caps.items())), tuple(cars)
+
+
+def roomy_yards(seed, many):
+    """Yards whose cars could take far more than the cables carry, so that what they share can be parted in many ways."""
+    chance = random.Random(seed)
+    yards = []
+    for _ in range(many):
+        cables = (("feed", "k", chance.randint(3, 7)), ("k", "m", chance.randint(1, 5)))
+        cars = [(name, chance.choice("km"), chance.randint(3, 7), chance.randint(2, 12)) for name in "abc"]
+        yards.append((cables, tuple(cars)))
+    return yards

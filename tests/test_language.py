@@ -74,7 +74,7 @@ class Language(unittest.TestCase):
 
     def test_imports_go_up_the_list_of_modules(self):
         order = ["errors", "forms", "yards", "edits", "yardtexts", "nets", "flows", "cuts", "copypapers", "reach", "stairs",
-                 "rows", "bare", "nights", "could", "nomore"]
+                 "rows", "bare", "nights", "could", "nomore", "keeping", "orders", "shares", "orderpapers", "promises", "prices"]
         for name, tree in trees():
             body = [node for node in tree.body if not (isinstance(node, ast.Expr) and isinstance(node.value, ast.Constant))]
             heads = [isinstance(node, ast.ImportFrom) for node in body]
