@@ -41,14 +41,14 @@ def sums_of(plan):
 def all_orders(yard, supply):
     """Return the list of all ORDERS, in the order of their amounts by the CARS."""
     names = [car[0] for car in yard[1]]
-    rows = _order_rows(yard, supply)
+    rows = order_rows(yard, supply)
     return [{name: amount for name, amount in zip(names, row) if amount > 0} for row in rows]
 
 
-def _order_rows(yard, supply):
-    """All ORDERS, each as the tuple of the amounts of all CARS."""
+def order_rows(yard, supply):
+    """Return the list of all ORDERS in the order of all_orders, each as the tuple of the amounts of all CARS."""
     greatest = [min(supply, rate, need) for name, knot, rate, need in yard[1]]
-    _check_product(greatest)
+    check_product(greatest)
     rows = [()]
     for most in greatest:
         rows = [row + (amount,) for row in rows for amount in range(min(most, supply - sum(row)) + 1)]
@@ -60,7 +60,7 @@ def _is_carried(yard, row):
     return carried(yard, 1, amounts) is not None
 
 
-def _check_product(greatest):
+def check_product(greatest):
     """Raise TooMany where there would be too many tuples of integers from 0 to these greatest ones."""
     product = 1
     for most in greatest:
@@ -73,9 +73,9 @@ def could_by_all(yard, night):
     """Return COULD(m) for each m from 0 to the length of the NIGHT, by going through all PLANS."""
     if night == ():
         return (0,)
-    orders = _order_rows(yard, max(night))
+    orders = order_rows(yard, max(night))
     needs = tuple([need for name, knot, rate, need in yard[1]])
-    _check_product(needs)
+    check_product(needs)
     rows = [(0,) * len(needs)]
     sums = [0]
     for supply in night:

@@ -13,7 +13,12 @@ from nightstairs.yards import cars_of, charged
 
 def order_for(yard, supply):
     """Return a RIGHT ORDER."""
-    return _order_in(yard, full_copies(yard, stairs(yard), supply)[1])
+    return order_from(yard, stairs(yard), supply)
+
+
+def order_from(yard, steps, supply):
+    """Return what order_for does; steps are the STAIRS of the yard."""
+    return _order_in(yard, full_copies(yard, steps, supply)[1])
 
 
 def orders_for(yard, night):
@@ -21,7 +26,7 @@ def orders_for(yard, night):
     steps = stairs(yard)
     plan = []
     for supply in night:
-        amounts = _order_in(yard, full_copies(yard, steps, supply)[1])
+        amounts = order_from(yard, steps, supply)
         plan.append(amounts)
         yard = charged(yard, amounts)
         # These are the STAIRS of the yard now, as the order is RIGHT.

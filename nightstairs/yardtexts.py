@@ -64,12 +64,20 @@ def read_amounts(text):
     """Return the AMOUNTS that a text shows."""
     if not isinstance(text, str) or "\n" in text:
         raise Wrong(0)
+    amounts = amounts_in(words_of(text))
+    if amounts is None:
+        raise NoText(0)
+    return amounts
+
+
+def amounts_in(words):
+    """Return the AMOUNTS that words show, None if they show none."""
     amounts = {}
-    for word in words_of(text):
+    for word in words:
         name, _, digits = word.partition("=")
         amount = count_in(digits)
         if not is_name(name) or name in amounts or amount is None or amount == 0:
-            raise NoText(0)
+            return None
         amounts[name] = amount
     return {name: amounts[name] for name in sorted(amounts)}
 

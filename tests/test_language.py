@@ -15,13 +15,15 @@ NODES = {
     "Break", "Continue", "Raise", "Delete", "ImportFrom", "alias", "Name", "Attribute", "Subscript", "Slice", "Tuple", "List",
     "Dict", "Constant", "Call", "keyword", "Lambda", "IfExp", "ListComp", "DictComp", "comprehension", "JoinedStr",
     "FormattedValue", "Load", "Store", "Del", "BoolOp", "And", "Or", "UnaryOp", "Not", "USub", "BinOp", "Add", "Sub", "Mult",
-    "FloorDiv", "BitXor", "Compare", "Eq", "NotEq", "Lt", "LtE", "Gt", "GtE", "Is", "IsNot", "In", "NotIn", "Pass",
+    "FloorDiv", "BitXor", "BitAnd", "LShift", "Compare", "Eq", "NotEq", "Lt", "LtE", "Gt", "GtE", "Is", "IsNot", "In", "NotIn",
+    "Pass", "Try", "ExceptHandler",
 }
 CALLED = {"len", "range", "enumerate", "zip", "min", "max", "sum", "abs", "sorted", "reversed", "int", "str", "bool", "list",
           "tuple", "dict", "set", "isinstance", "any", "all"}
 NAMED = CALLED | {"ValueError"}
 METHODS = {"append", "copy", "count", "extend", "get", "index", "insert", "items", "join", "keys", "partition", "pop", "remove",
-           "setdefault", "split", "strip", "values", "zfill"}
+           "setdefault", "split", "strip", "update", "values", "zfill"}
+CLASSES = {"chargers": "Charger", "desk": "Desk", "house": "House"}
 BARRED = {"register", "mro", "elements", "open", "input", "law", "type", "typing", "enum", "eval", "exec", "exit", "gc", "os",
           "sys", "vars", "dir", "id", "map", "next", "iter", "copyright", "credits", "license", "help", "format"}
 ITERATED_AT_ONCE = {"zip", "enumerate", "reversed", "items", "keys", "values"}
@@ -74,7 +76,8 @@ class Language(unittest.TestCase):
 
     def test_imports_go_up_the_list_of_modules(self):
         order = ["errors", "forms", "yards", "edits", "yardtexts", "nets", "flows", "cuts", "copypapers", "reach", "stairs",
-                 "rows", "bare", "nights", "could", "nomore", "keeping", "orders", "shares", "orderpapers", "promises", "prices"]
+                 "rows", "bare", "nights", "could", "nomore", "keeping", "orders", "shares", "orderpapers", "promises", "prices",
+                 "unlike", "witnesses", "parts", "partrows", "partletters", "cells", "chargers", "house", "books", "bookjudge", "desk"]
         for name, tree in trees():
             body = [node for node in tree.body if not (isinstance(node, ast.Expr) and isinstance(node.value, ast.Constant))]
             heads = [isinstance(node, ast.ImportFrom) for node in body]
@@ -106,7 +109,10 @@ class Language(unittest.TestCase):
                 elif isinstance(node, ast.Assign):
                     self.assertEqual(len(node.targets), 1)
                     self.assertIsInstance(node.targets[0], ast.Name)
-                    self.assertIsInstance(node.value, ast.Constant)
+                    functions = {row.name for row in tree.body[:at] if isinstance(row, ast.FunctionDef)}
+                    for row in ast.walk(node.value):
+                        self.assertIsInstance(row, (ast.Constant, ast.Dict, ast.Name, ast.Load))
+                        self.assertTrue(not isinstance(row, ast.Name) or row.id in functions, (name, node.lineno))
                 else:
                     self.assertIsInstance(node, (ast.ImportFrom, ast.FunctionDef, ast.ClassDef))
 
@@ -122,7 +128,7 @@ class Language(unittest.TestCase):
                 self.assertNotIn(word, known, name)
                 self.assertNotIn(word, imported, name)
                 self.assertNotIn(word, BARRED, name)
-                self.assertTrue(word == "__init__" or word == "_" or not word.startswith("__"), (name, word))
+                self.assertTrue(word in ("__init__", "__eq__", "_") or not word.startswith("__"), (name, word))
             for node in ast.walk(tree):
                 if isinstance(node, ast.FunctionDef):
                     own = {row for row in bound_names(node) if row != node.name}
@@ -130,15 +136,44 @@ class Language(unittest.TestCase):
                 if isinstance(node, ast.Name) and isinstance(node.ctx, ast.Load):
                     self.assertTrue(node.id != "_" and (node.id in NAMED or node.id not in known), (name, node.id))
 
-    def test_builtins_are_called_and_methods_are_of_builtin_values(self):
+    def test_builtins_are_called_and_methods_are_of_builtin_values_or_of_own_classes(self):
+        own = {node.name for name, tree in trees() for row in tree.body if isinstance(row, ast.ClassDef) for node in row.body
+               if isinstance(node, ast.FunctionDef)}
+        kept = {node.attr for name, node in nodes_of(ast.Attribute) if isinstance(node.ctx, ast.Store)}
+        self.assertFalse(own & kept)
         for name, tree in trees():
             heads = [node.func for node in ast.walk(tree) if isinstance(node, ast.Call)]
             for node in ast.walk(tree):
                 if isinstance(node, ast.Name) and node.id in CALLED and not any(node is head for head in heads):
                     self.assertIn(node.id, ("int", "str", "bool", "tuple", "list", "dict"), (name, node.lineno))
-                if isinstance(node, ast.Attribute) and isinstance(node.ctx, ast.Load):
-                    self.assertTrue(any(node is head for head in heads), (name, node.lineno))
-                    self.assertIn(node.attr, METHODS, (name, node.lineno))
+                if isinstance(node, ast.Attribute):
+                    if any(node is head for head in heads):
+                        self.assertIn(node.attr, METHODS | own, (name, node.lineno))
+                    else:
+                        # Attributes are those that some object is given, read and assigned off a name.
+                        self.assertIn(node.attr, kept, (name, node.lineno))
+                        self.assertIsInstance(node.value, ast.Name, (name, node.lineno))
+
+    def test_classes(self):
+        for name, tree in trees():
+            classes = [node for node in tree.body if isinstance(node, ast.ClassDef)]
+            if name != "errors.py":
+                self.assertEqual([node.name for node in classes], [CLASSES[name[:-3]]] if name[:-3] in CLASSES else [])
+            for node in classes:
+                self.assertEqual((node.decorator_list, node.keywords), ([], []))
+                self.assertEqual(len(node.bases), 1 if name == "errors.py" else 0)
+                words = [row.name for row in node.body if isinstance(row, ast.FunctionDef)]
+                self.assertEqual(len(words), len(set(words)))
+                for row in node.body:
+                    self.assertIsInstance(row, (ast.FunctionDef, ast.Expr))
+
+    def test_handlers_are_of_own_errors(self):
+        own = {node.name for name, node in nodes_of(ast.ClassDef) if name == "errors.py"}
+        for name, node in nodes_of(ast.Try):
+            self.assertFalse(node.finalbody)
+            for handler in node.handlers:
+                words = [row.id for row in ast.walk(handler.type) if isinstance(row, ast.Name)]
+                self.assertTrue(words and set(words) <= own, (name, node.lineno))
 
     def test_keywords(self):
         for name, node in nodes_of(ast.Call):
@@ -147,19 +182,21 @@ class Language(unittest.TestCase):
 
     def test_zips_and_views_are_iterated_at_once(self):
         for name, tree in trees():
-            fine = []
+            fine, counted = [], []
             for node in ast.walk(tree):
                 if isinstance(node, (ast.For, ast.comprehension)):
                     fine.append(node.iter)
                 if isinstance(node, ast.Call) and getattr(node.func, "id", "") in ("list", "tuple", "dict", "sorted", "sum"):
                     fine.extend(node.args)
+                if isinstance(node, ast.Call) and getattr(node.func, "id", "") == "len":
+                    counted.extend(node.args)
             for node in ast.walk(tree):
                 if isinstance(node, ast.Call):
                     word = getattr(node.func, "id", getattr(node.func, "attr", ""))
                     if word in ITERATED_AT_ONCE:
                         self.assertTrue(any(node is other for other in fine), (name, node.lineno))
                     if word == "set":
-                        self.assertTrue(any(node is other for other in fine), (name, node.lineno))
+                        self.assertTrue(any(node is other for other in fine + counted), (name, node.lineno))
 
     def test_is_is_for_none(self):
         for name, node in nodes_of(ast.Compare):
@@ -194,8 +231,6 @@ class Language(unittest.TestCase):
             self.assertIsInstance(node.exc, ast.Call, (name, node.lineno))
             self.assertIsNone(node.cause, (name, node.lineno))
             self.assertFalse(node.exc.keywords, (name, node.lineno))
-        for name, node in nodes_of(ast.ClassDef):
-            self.assertEqual(name, "errors.py")
 
 
 if __name__ == "__main__":
